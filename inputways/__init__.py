@@ -1,0 +1,1 @@
+"""inputways: every way that a program goes, for all inputs."""
