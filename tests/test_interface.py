@@ -5,29 +5,42 @@ import inspect
 import unittest
 
 FUNCTIONS = {
-    "inputways.words": {"top": ["w"], "compute": ["op", "w", "x", "y"]},
-    "inputways.programs": {"program_faults": ["value"]},
+    "inputways.words": {"top": "(w)", "compute": "(op, w, x, y)"},
+    "inputways.programs": {"program_faults": "(value)"},
+    "inputways.text": {"show_program": "(program)", "read_program": "(text)"},
+    "inputways.runs": {"run": "(program, inputs, *, steps)", "met": "(program, inputs, *, steps)",
+                       "items_of": "(program)"},
+    "inputways.bitwords": {"constant": "(pool, n, w)", "added": "(pool, x, y, carry)", "computed": "(pool, op, x, y)",
+                           "single": "(pool, op, x)", "less_word": "(pool, x, y)", "equal_word": "(pool, x, y)",
+                           "is_true": "(pool, x)", "chosen_word": "(pool, c, x, y)",
+                           "word_value": "(pool, x, bits)"},
 }
-CLASSES = {"inputways.errors": ("WaysError", "TextError", "PackError")}
-VALUES = {"inputways.words": ("PAIRS", "SINGLES")}
+CLASSES = {"inputways.errors": {"WaysError": {}, "TextError": {}, "PackError": {}},
+           "inputways.pool": {"Pool": {
+               "bit": "(self, name)", "both": "(self, x, y)", "either": "(self, x, y)", "unlike": "(self, x, y)",
+               "chosen": "(self, c, x, y)", "value": "(self, literal, bits)", "values": "(self, literals, bits)",
+               "clauses": "(self, literal)"}}}
+VALUES = {"inputways.words": ("PAIRS", "SINGLES"), "inputways.pool": ("NO", "YES")}
 
 
 class InterfaceTest(unittest.TestCase):
 
     def test_functions(self):
         for module, functions in FUNCTIONS.items():
-            for name, parameters in functions.items():
+            for name, signature in functions.items():
                 found = getattr(importlib.import_module(module), name)
                 self.assertTrue(inspect.isfunction(found), name)
                 self.assertEqual(found.__module__, module)
-                self.assertEqual(list(inspect.signature(found).parameters), parameters)
+                self.assertEqual(str(inspect.signature(found)), signature)
 
     def test_classes(self):
-        for module, names in CLASSES.items():
-            for name in names:
+        for module, classes in CLASSES.items():
+            for name, methods in classes.items():
                 found = getattr(importlib.import_module(module), name)
                 self.assertTrue(inspect.isclass(found), name)
                 self.assertEqual(found.__module__, module)
+                for method, signature in methods.items():
+                    self.assertEqual(str(inspect.signature(vars(found)[method])), signature)
 
     def test_values(self):
         for module, names in VALUES.items():

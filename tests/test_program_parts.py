@@ -1,13 +1,13 @@
 """The tests of statements and expressions within program_faults, and of what holds of everything."""
 
 import copy
-import sys
 import unittest
 
 from inputways.programs import program_faults
 from inputways.words import PAIRS, SINGLES, top
 from samples import (FIRST, HELPERS, MAIN, ODD_VALUES, ONE, nested, nested_cells, nested_left, nested_right,
                      with_body, with_end)
+from watching import deepest_calls
 
 
 def places_of(expression):
@@ -206,25 +206,6 @@ class NestingTest(PartsCase):
             self.assertTrue(program_faults(with_end((odd, odd))) == [(FIRST, "end")])
             value = (8, (), (("main", 0, ((odd, (), ("go", 3)),)),))
             self.assertTrue(program_faults(value) == [((0, 0), "label"), ((0, 0), "target")])
-
-
-def deepest_calls(action):
-    """The greatest number of calls of one function that were open at once while the action ran."""
-    open_calls, deepest = {}, [0]
-
-    def watch(frame, event, _):
-        if event == "call":
-            open_calls[frame.f_code] = open_calls.get(frame.f_code, 0) + 1
-            deepest[0] = max(deepest[0], open_calls[frame.f_code])
-        elif event == "return":
-            open_calls[frame.f_code] = open_calls.get(frame.f_code, 0) - 1
-
-    sys.setprofile(watch)
-    try:
-        action()
-    finally:
-        sys.setprofile(None)
-    return deepest[0]
 
 
 class EverythingTest(unittest.TestCase):

@@ -1,0 +1,182 @@
+"""Circuits: literals that name bits, which depend on named bits."""
+
+NO = 0
+YES = 1
+
+
+class Pool:
+    """Gates, each made of named bits or of earlier gates.
+
+    Gate k is that of the literals 2 * k and, for its opposite, 2 * k + 1; gate 0 is that of NO and YES.
+    A gate is a tuple of its kind and of the literals that it is made of: ("both", x, y), ("unlike", x, y),
+    ("chosen", c, x, y), ("most", x, y, z) for the bit that most of three have, or ("bit", name).
+    """
+
+    def __init__(self):
+        self.gates = [("no",)]
+        self.literals = {}
+
+    def bit(self, name):
+        """Return the literal of a named bit."""
+        return self.made(("bit", name))
+
+    def both(self, x, y):
+        """Return a literal that is 1 where both are 1."""
+        if x > y:
+            x, y = y, x
+        if x == NO or x == y ^ 1:
+            return NO
+        if x == YES or x == y:
+            return y
+        return self.made(("both", x, y))
+
+    def either(self, x, y):
+        """Return a literal that is 1 where one of two is 1, or both."""
+        return self.both(x ^ 1, y ^ 1) ^ 1
+
+    def unlike(self, x, y):
+        """Return a literal that is 1 where just one of two is 1."""
+        turned = (x ^ y) & 1
+        x = x ^ (x & 1)
+        y = y ^ (y & 1)
+        if x > y:
+            x, y = y, x
+        if x == y:
+            return turned
+        if x == NO:
+            return y ^ turned
+        return self.made(("unlike", x, y)) ^ turned
+
+    def chosen(self, c, x, y):
+        """Return a literal with the bit of x where c is 1, otherwise that of y."""
+        if c & 1:
+            c, x, y = c ^ 1, y, x
+        if c == NO or x == y:
+            return y
+        # Behind c itself its bit is known.
+        if x >> 1 == c >> 1:
+            x = x ^ c ^ 1
+        if y >> 1 == c >> 1:
+            y = y ^ c
+        if x == y ^ 1:
+            return self.unlike(c, y)
+        if x == NO:
+            return self.both(c ^ 1, y)
+        if x == YES:
+            return self.either(c, y)
+        if y == NO:
+            return self.both(c, x)
+        if y == YES:
+            return self.either(c ^ 1, x)
+        turned = x & 1
+        return self.made(("chosen", c, x ^ turned, y ^ turned)) ^ turned
+
+    def most(self, x, y, z):
+        """Return a literal with the bit that two or three of three have."""
+        x, y, z = sorted([x, y, z])
+        if x == y or y == z:
+            return y
+        if x == y ^ 1:
+            return z
+        if y == z ^ 1:
+            return x
+        if x == NO:
+            return self.both(y, z)
+        if x == YES:
+            return self.either(y, z)
+        turned = x & 1
+        return self.made(("most", x ^ turned, y ^ turned, z ^ turned)) ^ turned
+
+    def made(self, gate):
+        """Return the literal of a gate, which is made if there is none yet."""
+        if gate not in self.literals:
+            self.literals[gate] = 2 * len(self.gates)
+            self.gates.append(gate)
+        return self.literals[gate]
+
+    def value(self, literal, bits):
+        """Return the bit of a literal for a dict from names to bits."""
+        return self.computed([literal], bits)[0]
+
+    def values(self, literals, bits):
+        """Return the list of the bits of literals for a dict from names to bits."""
+        return self.computed(literals, bits)
+
+    def computed(self, literals, bits):
+        """Work out the list of the bits of literals for a dict from names to bits."""
+        found = {}
+        # A gate is made of earlier ones, so their bits are there when they are asked for.
+        for k in self.cone(literals):
+            found[k] = gate_value(self.gates[k], found, bits)
+        return [found[x >> 1] ^ (x & 1) for x in literals]
+
+    def cone(self, literals):
+        """Return the ascending list of the gates of which literals are made."""
+        seen = {}
+        todo = [x >> 1 for x in literals]
+        while len(todo) > 0:
+            k = todo.pop()
+            if k not in seen:
+                seen[k] = True
+                gate = self.gates[k]
+                if gate[0] != "bit":
+                    todo.extend([x >> 1 for x in gate[1:]])
+        return sorted(seen)
+
+    def clauses(self, literal):
+        """Return the clauses that say that a literal is 1, and the pairs of a name and its variable."""
+        if literal == YES:
+            return ((), ())
+        if literal == NO:
+            return (((),), ())
+        numbers = {}
+        clauses = []
+        names = []
+        for k in self.cone([literal]):
+            gate = self.gates[k]
+            numbers[k] = len(numbers) + 1
+            if gate[0] == "bit":
+                names.append((gate[1], numbers[k]))
+            else:
+                parts = [signed(x, numbers) for x in gate[1:]]
+                clauses.extend(gate_clauses(gate[0], numbers[k], parts))
+        clauses.append((signed(literal, numbers),))
+        return (tuple(clauses), tuple(names))
+
+
+def gate_value(gate, found, bits):
+    """Return the bit of a gate, where the bits of all earlier ones are found."""
+    kind = gate[0]
+    if kind == "bit":
+        return bits.get(gate[1], 0)
+    parts = [found[x >> 1] ^ (x & 1) for x in gate[1:]]
+    if kind == "unlike":
+        return parts[0] ^ parts[1]
+    if kind == "chosen":
+        return parts[1] if parts[0] == 1 else parts[2]
+    # What is left are "both" and "most", for which two must be 1, and "no", which has no parts.
+    return 1 if sum(parts) >= 2 else 0
+
+
+def signed(literal, numbers):
+    """Return the item of a clause for a literal, where the gates have these numbers as variables."""
+    number = numbers[literal >> 1]
+    return -number if literal & 1 else number
+
+
+def gate_clauses(kind, g, parts):
+    """Return the list of the clauses that say that g is the bit of a gate of these parts."""
+    if kind == "both":
+        x, y = parts
+        rows = [(x, -g), (y, -g), (-x, -y, g)]
+    elif kind == "unlike":
+        x, y = parts
+        rows = [(x, y, -g), (-x, -y, -g), (-x, y, g), (x, -y, g)]
+    elif kind == "chosen":
+        c, x, y = parts
+        # The last two follow from the others; with them x and y tell the bit where they agree.
+        rows = [(-c, -x, g), (-c, x, -g), (c, -y, g), (c, y, -g), (-x, -y, g), (x, y, -g)]
+    else:
+        x, y, z = parts
+        rows = [(-x, -y, g), (-x, -z, g), (-y, -z, g), (x, y, -g), (x, z, -g), (y, z, -g)]
+    return [tuple(sorted(row, key=abs)) for row in rows]
