@@ -1,4 +1,4 @@
-"""Runs once more, written by recursion and errors, to compare with."""
+"""Runs once more, written by recursion and errors, with the decisions that they make, to compare with."""
 
 from inputways.words import PAIRS, compute
 
@@ -7,18 +7,27 @@ class Ended(Exception):
     """The run has ended."""
 
 
+class Unknown(int):
+    """A word in which an input took part."""
+
+
+def marked(n, *parts):
+    """A word that is made of others, or behind an index."""
+    return Unknown(n) if any(isinstance(part, Unknown) for part in parts) else int(n)
+
+
 class PlainRun:
-    """A run of a program: writes, end, path and the items that it meets."""
+    """A run of a program: writes, end, path, the items that it meets, and its decisions, 0 for a first side."""
 
     def __init__(self, program, inputs, steps):
         self.width, arrays, procedures = program
         self.sizes = dict(arrays)
         self.cells = {name: [0] * size for name, size in arrays}
         self.procedures = {name: (count, blocks) for name, count, blocks in procedures}
-        self.inputs = list(inputs)
+        self.inputs = [Unknown(x) for x in inputs]
         self.steps = steps
         self.open = []
-        self.writes, self.path, self.items = [], [], set()
+        self.writes, self.path, self.items, self.decisions = [], [], set(), []
         try:
             self.end = ("return", self.doing("main", []))
         except Ended as ended:
@@ -54,7 +63,8 @@ class PlainRun:
                 return word
             target = end[1]
             if end[0] == "if":
-                target = end[2] if self.word(end[1], variables, place) else end[3]
+                word = self.word(end[1], variables, place)
+                target = end[2] if self.decided(word, word != 0) else end[3]
             edge = ("edge", name, label, target)
             label = target
 
@@ -69,9 +79,12 @@ class PlainRun:
             index = self.word(item[2], variables, place)
             word = self.word(item[3], variables, place)
             self.look(item[1], index, place)
-            self.cells[item[1]][index] = word
+            if isinstance(index, Unknown):
+                self.cells[item[1]] = [Unknown(old) for old in self.cells[item[1]]]
+            self.cells[item[1]][index] = marked(word, word, index)
         elif item[0] == "assert":
-            if not self.word(item[2], variables, place):
+            word = self.word(item[2], variables, place)
+            if not self.decided(word, word != 0):
                 raise Ended(("broken", item[1]))
         else:
             words = [self.word(part, variables, place) for part in item[3]]
@@ -79,8 +92,13 @@ class PlainRun:
                 raise Ended(("deep",) + place)
             variables[item[1]] = self.doing(item[2], words)
 
+    def decided(self, word, first):
+        if isinstance(word, Unknown):
+            self.decisions.append(0 if first else 1)
+        return first
+
     def look(self, name, index, place):
-        if index >= self.sizes[name]:
+        if not self.decided(index, index < self.sizes[name]):
             raise Ended(("index",) + place)
 
     def word(self, value, variables, place):
@@ -91,7 +109,7 @@ class PlainRun:
         if value[0] == "cell":
             index = self.word(value[2], variables, place)
             self.look(value[1], index, place)
-            return self.cells[value[1]][index]
+            return marked(self.cells[value[1]][index], index, self.cells[value[1]][index])
         x = self.word(value[1], variables, place)
         y = self.word(value[2], variables, place) if value[0] in PAIRS else 0
-        return compute(value[0], self.width, x, y)
+        return marked(compute(value[0], self.width, x, y), x, y)

@@ -14,6 +14,12 @@ FUNCTIONS = {
                            "single": "(pool, op, x)", "less_word": "(pool, x, y)", "equal_word": "(pool, x, y)",
                            "is_true": "(pool, x)", "chosen_word": "(pool, c, x, y)",
                            "word_value": "(pool, x, bits)"},
+    "inputways.refuter": {"is_clause": "(value)", "follows": "(clauses, clause)", "refutes": "(clauses, value)"},
+    "inputways.solver": {"solve": "(clauses)"},
+    "inputways.trees": {"explore": "(program, inputs, *, steps)", "check_tree": "(program, inputs, value, *, steps)",
+                        "refusal": "(program, inputs, value, *, steps)",
+                        "ways_of": "(program, inputs, tree, *, steps)",
+                        "told_run": "(program, inputs, tree, *, steps)"},
 }
 CLASSES = {"inputways.errors": {"WaysError": {}, "TextError": {}, "PackError": {}},
            "inputways.pool": {"Pool": {
