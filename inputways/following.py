@@ -146,8 +146,6 @@ class Following(Machine):
 def picked(pool, words, index):
     """Return the word at an index in a list of words, which has an item for it."""
     for bit in index:
-        if len(words) == 1:
-            return words[0]
         # The next bit tells which word of each two is the right one; the last one may stand alone.
         pairs = [words[k:k + 2] for k in range(0, len(words), 2)]
         words = [chosen_word(pool, bit, pair[-1], pair[0]) for pair in pairs]

@@ -8,14 +8,19 @@ from inputways.order import Order
 from inputways.units import FALSE, TRUE, Row, Units, variables_of
 
 # A learnt clause whose items got false by so few different choices is never dropped.
-FEW_CHOICES = 2
-# When there are so many others, half of them are dropped; then more are waited for.
-FIRST_PATIENCE = 2000
+FEW_CHOICES = 3
+# When there are so many others, half of them are dropped; then more are waited for. One choice more is as
+# bad as not to have been used since so many clauses were learnt.
+FIRST_PATIENCE = 3000
 MORE_PATIENCE = 500
-# All choices are taken back where the last learnt clauses were worse than those of a long time.
+CHOICE_WORTH = 400
+# All choices are taken back where the last learnt clauses were worse than those of a long time; but only
+# in every other part of the search, of which each is twice as long as the one ahead: some clauses are
+# refuted sooner with such breaks, others without.
 LAST_PARTS = 32
 LONG_PARTS = 4096
 LEAST_PAUSE = 24
+FIRST_PART = 1024
 
 
 def solve(clauses):
@@ -51,6 +56,8 @@ class Search(Units):
         self.seen = [False] * count
         self.touched = []
         self.used = []
+        # How many learnt clauses may be dropped, and how many of them are too many.
+        self.passing = 0
         self.patience = FIRST_PATIENCE
         self.pause = 0
         self.last_worth = 0
@@ -80,7 +87,7 @@ class Search(Units):
 
     def choose(self):
         """Choose an item that is open, and tell whether there was one."""
-        if self.pause >= LEAST_PAUSE and self.last_worth * 10 > self.long_worth * 11:
+        if self.passing >= self.patience or self.is_break_due():
             self.restart()
         k = self.order.first_open(self.state)
         if k is None:
@@ -90,17 +97,30 @@ class Search(Units):
         self.give(self.wishes[k], None)
         return True
 
+    def is_break_due(self):
+        """Tell whether all choices are to be taken back for a new beginning."""
+        if self.pause < LEAST_PAUSE or self.last_worth * 10 <= self.long_worth * 11:
+            return False
+        part = (len(self.learnt) // FIRST_PART).bit_length()
+        return part & 1 == 0
+
     def restart(self):
-        """Take all choices back, and drop learnt clauses where there are many."""
+        """Take all choices back, and drop learnt clauses where there are too many."""
         self.pause = 0
         self.last_worth = self.long_worth
         self.go_back(0)
-        passing = [row for row in self.rows if row.choices > FEW_CHOICES]
-        if len(passing) >= self.patience:
+        if self.passing >= self.patience:
             self.patience += MORE_PATIENCE
-            for row in sorted(passing, key=keeping_key)[len(passing) // 2:]:
-                row.dropped = True
+            self.drop_half()
             self.load_again()
+
+    def drop_half(self):
+        """Drop half of the learnt clauses that may be dropped."""
+        rows = [row for row in self.rows if row.choices > FEW_CHOICES]
+        rows = sorted(rows, key=keeping_key)
+        self.passing = len(rows) // 2
+        for row in rows[self.passing:]:
+            row.dropped = True
 
     def load_again(self):
         """Let all clauses wait anew, without those that are dropped and without what is known."""
@@ -135,6 +155,7 @@ class Search(Units):
         rest = sorted(rest, key=lambda x: -self.levels[x >> 1])
         made = Row(items[:1] + rest)
         made.number = len(self.learnt)
+        made.last_use = made.number
         made.choices = len({self.levels[x >> 1] for x in made.parts})
         self.note(made)
         if len(rest) == 0:
@@ -152,6 +173,8 @@ class Search(Units):
         self.touched = []
         self.used = []
         self.pause += 1
+        if made.choices > FEW_CHOICES:
+            self.passing += 1
         worth = made.choices << 20
         self.last_worth += (worth - self.last_worth) // LAST_PARTS
         self.long_worth += (worth - self.long_worth) // min(LONG_PARTS, len(self.learnt))
@@ -164,6 +187,7 @@ class Search(Units):
         while True:
             if row.number is not None:
                 self.used.append(row.number)
+                row.last_use = len(self.learnt)
             for x in row.parts:
                 k = x >> 1
                 if not self.seen[k] and self.levels[k] > 0:
@@ -210,4 +234,4 @@ class Search(Units):
 
 def keeping_key(row):
     """Return by what learnt clauses are sorted: those to keep come first."""
-    return (row.choices, len(row.parts))
+    return row.choices * CHOICE_WORTH - row.last_use

@@ -22,10 +22,11 @@ class Row:
         self.parts = parts
         # It waits at two of its items: for each of them, link ^ item is the other one.
         self.link = 0
-        # What a search knows of a clause that it has learnt: which one it is, and by how many choices its
-        # items had got false; and whether it is to be dropped.
+        # What a search knows of a clause that it has learnt: which one it is, by how many choices its items
+        # had got false, how many were learnt when it was used last; and whether it is to be dropped.
         self.number = None
         self.choices = 0
+        self.last_use = 0
         self.dropped = False
 
 

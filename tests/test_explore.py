@@ -123,6 +123,22 @@ class DecisionTest(unittest.TestCase):
         self.assertEqual(shape(tree), AllRuns(program, 1, 9).shape())
         self.assertEqual(shape(tree), (((WAY, SHUT), WAY), SHUT))
 
+    def test_cells_are_picked_by_all_bits_of_an_index(self):
+        for width in (1, 2, 3, 4):
+            for size in range(1, 9):
+                some = [(3 * k + 1) % 2 ** width for k in range(size)]
+                stores = "".join(f"a[{k}] = {word}\n" for k, word in enumerate(some) if k < 2 ** width)
+                ahead = f"width {width}\narray a {size}\nprocedure main 0\nblock 0\nv0 = take\n{stores}"
+                for lines in ("assert 1 (a[v0] equal 0)", "assert 1 (a[v0] equal 1)", "a[v0] = v0\nassert 1 (a[v0] equal v0)",
+                              "a[v0] = (a[v0] add 1)\nassert 1 (a[0] equal 1)\nassert 2 (a[v0] and 1)",
+                              "v1 = take\na[v0] = v1\nassert 1 (a[v1] equal 1)"):
+                    program = read_program(ahead + lines + "\nreturn 0\n")
+                    count = 2 if "v1" in lines else 1
+                    runs, tree = AllRuns(program, count, 9), explore(program, count, steps=9)
+                    self.assertEqual(shape(tree), runs.shape(), (width, size, lines))
+                    self.assertTrue(check_tree(program, count, tree, steps=9))
+                    self.assertTrue(all(runs.is_way(path, part[1]) for path, part in parts_of(tree) if part[0] == "way"))
+
     def test_decisions_stand_in_the_order_of_the_run(self):
         # The one that is looked at first goes wrong in the last way, the other one in the way ahead of it.
         for lines, first in (("put (a[v0] add b[v1])", 0), ("put (b[v1] add a[v0])", 1), ("v2 = id((a[v0] or b[v1]))", 0),
