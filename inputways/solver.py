@@ -148,7 +148,8 @@ class Search(Units):
         """Learn a clause from one whose items are all false, and go back to where it gives an item."""
         items = self.reasons(row)
         self.order.renew(self.touched)
-        rest = [x for x in items[1:] if not self.is_needless(x)]
+        places = {self.levels[x >> 1]: True for x in items}
+        rest = [x for x in items[1:] if not self.is_needless(x, places)]
         for k in self.touched:
             self.seen[k] = False
         # The item behind the first one is open again only where all others but the first one are false.
@@ -205,8 +206,11 @@ class Search(Units):
                 return [self.trail[place] ^ 1] + items
             row = self.causes[self.trail[place] >> 1]
 
-    def is_needless(self, x):
-        """Tell whether an item is false because of other ones that were seen alone."""
+    def is_needless(self, x, places):
+        """Tell whether an item is false because of other ones that were seen alone.
+
+        This cannot be so where it leads back to a choice behind which none of them is: places has the others.
+        """
         if self.causes[x >> 1] is None:
             return False
         todo = [x >> 1]
@@ -220,7 +224,7 @@ class Search(Units):
                 k = y >> 1
                 if self.seen[k] or self.levels[k] == 0:
                     continue
-                if self.causes[k] is None:
+                if self.causes[k] is None or self.levels[k] not in places:
                     for m in found:
                         self.seen[m] = False
                     return False
