@@ -59,14 +59,18 @@ class Units:
 
     def enter(self, clause):
         """Add a clause of numbered items; nothing may have been chosen, but all that follows is given later."""
-        state = self.state
-        parts = [x for x in clause if state[x] != FALSE]
+        parts = []
+        for x in clause:
+            known = self.state[x]
+            if known == TRUE:
+                return
+            if known == OPEN:
+                parts.append(x)
         if len(parts) == 0:
             self.broken = True
         elif len(parts) == 1:
-            if state[parts[0]] == OPEN:
-                self.give(parts[0], None)
-        elif not any([state[x] == TRUE for x in parts]):
+            self.give(parts[0], None)
+        else:
             self.attach(Row(parts))
 
     def attach(self, row):
@@ -114,7 +118,7 @@ class Units:
     def spread_rows(self, x):
         """Give what follows from the clauses that wait at x when it is false."""
         state = self.state
-        rows = self.waiting[x]
+        rows = list(self.waiting[x])
         kept = []
         self.waiting[x] = kept
         found = None
