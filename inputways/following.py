@@ -4,10 +4,10 @@ A decision is made where a word that is not known tells how the run goes on. A p
 each decision that goes to its first side, and 1 for each one that goes to its second side.
 """
 
-from inputways.bitwords import chosen_word, computed, constant, equal_word, is_true, less_word, single
 from inputways.machine import Machine
 from inputways.pool import YES, Pool
-from inputways.words import compute, top
+from inputways.symbols import Symbols, input_words
+from inputways.words import compute
 
 # The end of a run that is followed along a path, where one more decision is to be made.
 UNDECIDED = ("undecided",)
@@ -62,71 +62,24 @@ class Telling(Machine):
         return first
 
 
-class Following(Machine):
-    """A run that is followed along a path for all tuples of so many inputs.
-
-    Words are integers where they are known, and lists of literals of a pool where they are not.
-    """
+class Following(Symbols):
+    """A run that is followed along a path for all tuples of so many inputs."""
 
     def __init__(self, plan, count, steps, path):
-        self.pool = Pool()
+        pool = Pool()
+        super().__init__(plan, input_words(pool, count, plan.width), steps, pool)
         self.path_to_go = path
         # The literal of each decision, that it goes to its first side, and the condition ahead of it.
         self.decisions = []
         self.conditions = [YES]
-        inputs = [[self.pool.bit((k, j)) for j in range(plan.width)] for k in range(count)]
-        super().__init__(plan, inputs, steps)
-
-    def spelled(self, x):
-        """Return the list of the literals of a word."""
-        return constant(self.pool, x, self.plan.width) if isinstance(x, int) else x
-
-    def paired(self, op, x, y):
-        """Return the word that an op of two parts gives."""
-        if isinstance(x, int) and isinstance(y, int):
-            return compute(op, self.plan.width, x, y)
-        return computed(self.pool, op, self.spelled(x), self.spelled(y))
-
-    def singled(self, op, x):
-        """Return the word that an op of one part gives."""
-        if isinstance(x, int):
-            return compute(op, self.plan.width, x, 0)
-        return single(self.pool, op, x)
 
     def holds(self, x):
         """Tell whether a word is not 0, as the path says if it is not known."""
-        if isinstance(x, int):
-            return x != 0
-        return self.decide(is_true(self.pool, x))
+        return x != 0 if isinstance(x, int) else self.decide(self.truth(x))
 
     def inside(self, x, size):
         """Tell whether a word is below the size of an array, as the path says if it is not known."""
-        if isinstance(x, int):
-            return x < size
-        if size > top(self.plan.width):
-            return self.decide(YES)
-        return self.decide(less_word(self.pool, x, constant(self.pool, size, self.plan.width)))
-
-    def read(self, name, x):
-        """Return the word of a cell."""
-        cells = self.cells[name]
-        if isinstance(x, int):
-            return cells[x]
-        return picked(self.pool, [self.spelled(word) for word in cells], x)
-
-    def store(self, name, x, word):
-        """Put a word into a cell."""
-        cells = self.cells[name]
-        if isinstance(x, int):
-            cells[x] = word
-            return
-        word = self.spelled(word)
-        for k, old in enumerate(list(cells)):
-            # An index that no word has is never the one that is stored at, but its cell is not known either.
-            cells[k] = self.spelled(old)
-            if k <= top(self.plan.width):
-                here = equal_word(self.pool, x, constant(self.pool, k, self.plan.width))
-                cells[k] = chosen_word(self.pool, here, word, cells[k])
+        return x < size if isinstance(x, int) else self.decide(self.below(x, size))
 
     def decide(self, literal):
         """Return whether a decision goes to its first side; None if it is behind the path."""
@@ -141,12 +94,3 @@ class Following(Machine):
     def condition(self, place, side):
         """Return the literal that decision number place goes to a side, and all ahead of it as on the path."""
         return self.pool.both(self.conditions[place], self.decisions[place] ^ side)
-
-
-def picked(pool, words, index):
-    """Return the word at an index in a list of words, which has an item for it."""
-    for bit in index:
-        # The next bit tells which word of each two is the right one; the last one may stand alone.
-        pairs = [words[k:k + 2] for k in range(0, len(words), 2)]
-        words = [chosen_word(pool, bit, pair[-1], pair[0]) for pair in pairs]
-    return words[0]

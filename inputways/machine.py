@@ -1,7 +1,7 @@
 """A machine that does the moves of a program, one run at a time.
 
 The words of this machine are integers. A machine with words of another kind is a class below it,
-which says what words are and how they tell which way the run goes on.
+which says what words are, and what happens where they tell which way the run goes on.
 """
 
 from inputways.moves import moves_of
@@ -18,6 +18,7 @@ class Plan:
     def __init__(self, program):
         self.width, arrays, procedures = program
         self.sizes = {name: size for name, size in arrays}
+        self.params = {name: count for name, count, _ in procedures}
         self.entries = {name: blocks[0][0] for name, _, blocks in procedures}
         self.blocks = {}
         for name, _, blocks in procedures:
@@ -45,6 +46,14 @@ class Frame:
         self.label = None
         self.todo = []
         self.place = 0
+
+    def twin(self):
+        """Return another frame at the same place, with the same words."""
+        other = Frame(self.procedure, self.back, list(self.variables))
+        other.label = self.label
+        other.todo = self.todo
+        other.place = self.place
+        return other
 
 
 class Machine:
@@ -94,6 +103,10 @@ class Machine:
     def go(self):
         """Do the run of main up to its end."""
         self.begin_procedure("", MAIN, [])
+        self.work()
+
+    def work(self):
+        """Do one move after another up to the end."""
         while self.end is None:
             frame = self.frames[-1]
             move = frame.todo[frame.place]
@@ -127,9 +140,51 @@ class Machine:
             self.edges.append(edge)
 
     def end_at(self, word, at):
-        """End the run at statement number at of the block that runs."""
+        """Return the end of a run that ends at statement number at of the block that runs."""
         frame = self.frames[-1]
-        self.end = (word, frame.procedure, frame.label, at)
+        return (word, frame.procedure, frame.label, at)
+
+    def take(self):
+        """Return the next input, or 0 behind the last one."""
+        if self.taken >= len(self.inputs):
+            return self.plain(0)
+        self.taken += 1
+        return self.inputs[self.taken - 1]
+
+    def write(self, word):
+        """Write a word."""
+        self.writes.append(word)
+
+    def look(self, x, name, at):
+        """End the run if an index is not below the size of its array."""
+        if self.inside(x, self.plan.sizes[name]) is False:
+            self.end = self.end_at("index", at)
+
+    def affirm(self, x, k):
+        """End the run if the word of an assertion is 0."""
+        if self.holds(x) is False:
+            self.end = ("broken", k)
+
+    def call(self, back, procedure, arguments, at):
+        """Begin a procedure, or end the run if too many are open."""
+        if len(self.frames) >= MOST_OPEN:
+            self.end = self.end_at("deep", at)
+        else:
+            self.begin_procedure(back, procedure, arguments)
+
+    def part(self, x, first, second):
+        """Lead to one of two blocks; to none where it is not told to which."""
+        side = self.holds(x)
+        if side is not None:
+            self.lead(first if side else second)
+
+    def give_back(self, word):
+        """End the procedure that runs, and the run if it is the one of main."""
+        frame = self.frames.pop()
+        if len(self.frames) > 0:
+            self.frames[-1].variables[frame.back] = word
+        else:
+            self.end = ("return", word)
 
 
 def do_number(machine, move):
@@ -145,8 +200,7 @@ def do_var(machine, move):
 def do_look(machine, move):
     """Look whether an index is below the size of its array."""
     _, name, at, back = move
-    if machine.inside(machine.stack[-back], machine.plan.sizes[name]) is False:
-        machine.end_at("index", at)
+    machine.look(machine.stack[-back], name, at)
 
 
 def do_cell(machine, move):
@@ -173,16 +227,12 @@ def do_set(machine, move):
 
 def do_take(machine, move):
     """Give a variable the next input."""
-    word = machine.plain(0)
-    if machine.taken < len(machine.inputs):
-        word = machine.inputs[machine.taken]
-        machine.taken += 1
-    machine.frames[-1].variables[move[1]] = word
+    machine.frames[-1].variables[move[1]] = machine.take()
 
 
 def do_put(machine, _):
     """Write a word."""
-    machine.writes.append(machine.stack.pop())
+    machine.write(machine.stack.pop())
 
 
 def do_store(machine, move):
@@ -192,20 +242,16 @@ def do_store(machine, move):
 
 
 def do_assert(machine, move):
-    """End the run if a word is 0."""
-    if machine.holds(machine.stack.pop()) is False:
-        machine.end = ("broken", move[1])
+    """Look whether an assertion is broken."""
+    machine.affirm(machine.stack.pop(), move[1])
 
 
 def do_call(machine, move):
-    """Begin a procedure, or end the run if too many are open."""
+    """Call a procedure with all words of the stack."""
     _, back, procedure, at = move
     arguments = machine.stack
     machine.stack = []
-    if len(machine.frames) >= MOST_OPEN:
-        machine.end_at("deep", at)
-    else:
-        machine.begin_procedure(back, procedure, arguments)
+    machine.call(back, procedure, arguments, at)
 
 
 def do_go(machine, move):
@@ -214,20 +260,13 @@ def do_go(machine, move):
 
 
 def do_if(machine, move):
-    """Lead to one of two blocks; to none where the machine does not tell to which."""
-    first = machine.holds(machine.stack.pop())
-    if first is not None:
-        machine.lead(move[1] if first else move[2])
+    """Lead to one of two blocks."""
+    machine.part(machine.stack.pop(), move[1], move[2])
 
 
 def do_return(machine, _):
-    """End the procedure that runs, and the run if it is the one of main."""
-    word = machine.stack.pop()
-    frame = machine.frames.pop()
-    if len(machine.frames) > 0:
-        machine.frames[-1].variables[frame.back] = word
-    else:
-        machine.end = ("return", word)
+    """End the procedure that runs."""
+    machine.give_back(machine.stack.pop())
 
 
 ACTIONS = {

@@ -18,7 +18,7 @@ class Pool:
 
     def bit(self, name):
         """Return the literal of a named bit."""
-        return self.made(("bit", name))
+        return self.literal_of(("bit", name))
 
     def both(self, x, y):
         """Return a literal that is 1 where both are 1."""
@@ -28,7 +28,7 @@ class Pool:
             return NO
         if x == YES or x == y:
             return y
-        return self.made(("both", x, y))
+        return self.literal_of(both_gate(x, y))
 
     def either(self, x, y):
         """Return a literal that is 1 where one of two is 1, or both."""
@@ -45,7 +45,7 @@ class Pool:
             return turned
         if x == NO:
             return y ^ turned
-        return self.made(("unlike", x, y)) ^ turned
+        return self.literal_of(("unlike", x, y)) ^ turned
 
     def chosen(self, c, x, y):
         """Return a literal with the bit of x where c is 1, otherwise that of y."""
@@ -69,7 +69,7 @@ class Pool:
         if y == YES:
             return self.either(c ^ 1, x)
         turned = x & 1
-        return self.made(("chosen", c, x ^ turned, y ^ turned)) ^ turned
+        return self.literal_of(("chosen", c, x ^ turned, y ^ turned)) ^ turned
 
     def most(self, x, y, z):
         """Return a literal with the bit that two or three of three have."""
@@ -85,9 +85,48 @@ class Pool:
         if x == YES:
             return self.either(y, z)
         turned = x & 1
-        return self.made(("most", x ^ turned, y ^ turned, z ^ turned)) ^ turned
+        return self.literal_of(("most", x ^ turned, y ^ turned, z ^ turned)) ^ turned
 
-    def made(self, gate):
+    def any_of(self, literals):
+        """Return a literal that is 1 where one of some literals is 1, or more of them."""
+        left = {}
+        for x in literals:
+            found = self.half_of(x, left)
+            while found is not None:
+                y, x = found
+                del left[y]
+                found = self.half_of(x, left)
+            left[x] = True
+        total = NO
+        for x in left:
+            total = self.either(total, x)
+        return total
+
+    def half_of(self, x, others):
+        """Return (y, a) for a literal y of others such that x or y is 1 just where a is 1; None if there is none."""
+        if x ^ 1 in others:
+            return (x ^ 1, YES)
+        for a, b in self.splits(x):
+            y = self.literals.get(both_gate(a, b ^ 1))
+            if y in others:
+                return (y, a)
+        return None
+
+    def told_apart(self, x, y):
+        """Return a literal that is 1 where x is 1 and 0 where y is 1, for literals that are not 1 at once."""
+        for a, b in self.splits(x):
+            if self.literals.get(both_gate(a, b ^ 1)) == y:
+                return b
+        return x
+
+    def splits(self, x):
+        """Return the list of the pairs (a, b) for which x is made as the literal that is 1 where both are 1."""
+        gate = self.gates[x >> 1]
+        if x & 1 == 1 or gate[0] != "both":
+            return []
+        return [(gate[1], gate[2]), (gate[2], gate[1])]
+
+    def literal_of(self, gate):
         """Return the literal of a gate, which is made if there is none yet."""
         if gate not in self.literals:
             self.literals[gate] = 2 * len(self.gates)
@@ -142,6 +181,11 @@ class Pool:
                 clauses.extend(gate_clauses(gate[0], numbers[k], parts))
         clauses.append((signed(literal, numbers),))
         return (tuple(clauses), tuple(names))
+
+
+def both_gate(x, y):
+    """Return the gate of the literal that is 1 where both are 1; neither tells anything of the other one."""
+    return ("both", min(x, y), max(x, y))
 
 
 def gate_value(gate, found, bits):

@@ -3,11 +3,11 @@
 from inputways.following import Following, Telling
 from inputways.machine import Machine, Plan
 from inputways.pool import YES
-from inputways.programs import is_between, is_row
+from inputways.programs import is_row
 from inputways.refuter import refutes
+from inputways.rows import bits_of, inputs_of, is_inputs
 from inputways.runs import met_by
 from inputways.solver import solve
-from inputways.words import top
 
 
 def explore(program, inputs, *, steps):
@@ -29,7 +29,7 @@ def explore(program, inputs, *, steps):
             if answer == "no":
                 leaves[path[:place] + (side,)] = ("shut", found)
             else:
-                todo.append((inputs_of(found, names, inputs, plan.width), place + 1))
+                todo.append((inputs_of(found, names, inputs), place + 1))
     return joined(leaves)
 
 
@@ -38,16 +38,6 @@ def path_of(plan, row, steps):
     telling = Telling(plan, row, steps)
     telling.go()
     return tuple(telling.decided)
-
-
-def inputs_of(filling, names, count, width):
-    """Return the tuple of so many inputs that have the bits of a filling at its names, otherwise 0."""
-    true = {x: True for x in filling}
-    row = [0] * count
-    for (k, j), variable in names:
-        if variable in true:
-            row[k] |= 1 << j
-    return tuple(row)
 
 
 def joined(leaves):
@@ -123,16 +113,6 @@ def is_right_leaf(trace, path, part):
 def condition_of(trace, path):
     """Return the literal of the condition of a path, whose decisions but the last one were followed."""
     return trace.condition(len(path) - 1, path[-1]) if len(path) > 0 else YES
-
-
-def is_inputs(value, count, width):
-    """Tell whether a plain value is a tuple of so many words."""
-    return is_row(value, count) and all([is_between(x, 0, top(width)) for x in value])
-
-
-def bits_of(row, width):
-    """Return the dict of the bits of inputs, by their names."""
-    return {(k, j): (x >> j) & 1 for k, x in enumerate(row) for j in range(width)}
 
 
 def ways_of(program, inputs, tree, *, steps):

@@ -63,3 +63,44 @@ class Maker:
         if self.random.random() < 0.2:
             return (self.random.choice(SINGLES), self.word(depth - 1))
         return (self.random.choice(self.ops), self.word(depth - 1), self.word(depth - 1))
+
+
+class TakingMaker(Maker):
+    """Makes programs that take a word for each variable first, so that their inputs go many ways."""
+
+    def blocks(self, name):
+        first, *rest = super().blocks(name)
+        if name == "main":
+            first = (first[0], tuple(("take", v) for v in range(self.variables)) + first[1], first[2])
+        return (first, *rest)
+
+
+class ClaimMaker(Maker):
+    """Makes claims about a program, too."""
+
+    def claims(self, program, share=0.5, most=2):
+        """Claims about some of the blocks and procedures, with a few expressions each."""
+        rows, gives = [], []
+        for name, count, blocks in program[2]:
+            for block in blocks:
+                if self.random.random() < share:
+                    rows.append(((name, block[0]), self.some_claims(count, False, most)))
+            if name != "main" and self.random.random() < share:
+                gives.append((name, self.some_claims(count, True, most)))
+        return (tuple(sorted(rows)), tuple(sorted(gives)))
+
+    def some_claims(self, params, is_give, most):
+        return tuple(self.claim(params, is_give, self.depth) for _ in range(self.random.randint(1, most)))
+
+    def claim(self, params, is_give, depth):
+        if depth == 0 or self.random.random() < 0.3:
+            return self.random.choice([("int", self.random.randint(0, top(self.width)))] + self.leaves(params, is_give))
+        if self.random.random() < 0.2:
+            return (self.random.choice(SINGLES), self.claim(params, is_give, depth - 1))
+        return (self.random.choice(self.ops), self.claim(params, is_give, depth - 1), self.claim(params, is_give, depth - 1))
+
+    def leaves(self, params, is_give):
+        words = [("was", k) for k in range(params)]
+        if is_give:
+            return words + [("gave",)] * 2
+        return words + [("var", v) for v in range(self.variables)]

@@ -51,6 +51,7 @@ class PlainRun:
                 raise Ended(("none",))
             self.path.append((name, label))
             self.items.add(("block", name, label))
+            self.begins(name, label, words, variables)
             if edge:
                 self.items.add(edge)
             body, end = blocks[label]
@@ -59,6 +60,7 @@ class PlainRun:
             place = (name, label, -1)
             if end[0] == "return":
                 word = self.word(end[1], variables, place)
+                self.gives(name, words, word)
                 self.open.pop()
                 return word
             target = end[1]
@@ -67,6 +69,12 @@ class PlainRun:
                 target = end[2] if self.decided(word, word != 0) else end[3]
             edge = ("edge", name, label, target)
             label = target
+
+    def begins(self, name, label, words, variables):
+        """A block begins, of a procedure that was called with these words."""
+
+    def gives(self, name, words, word):
+        """A procedure that was called with these words returns a word."""
 
     def statement(self, item, variables, place):
         if item[0] == "set":

@@ -100,6 +100,41 @@ class LiteralTest(unittest.TestCase):
                 self.assertEqual(pool.values(made, row), [f & g, f | g, f ^ g, g if f else h, int(f + g + h >= 2)])
                 self.assertEqual([pool.value(x, row) for x in made], pool.values(made, row))
 
+    def test_any_of_some_literals(self):
+        for seed in range(40):
+            circuits = Circuits(seed, 60)
+            for many in (0, 1, 2, 3, 5, 12):
+                some = circuits.random.sample(circuits.made, many)
+                found = circuits.pool.any_of([x for x, _ in some])
+                for k, row in enumerate(circuits.rows):
+                    self.assertEqual(circuits.pool.value(found, row), max([bits[k] for _, bits in some], default=0))
+
+    def test_any_of_the_two_sides_of_choices(self):
+        # All that comes from a literal by choices is that literal again, in whatever order it stands.
+        pool = Pool()
+        a, b, c, d = [pool.bit((k,)) for k in range(4)]
+        first, second = pool.both(a, b), pool.both(a, b ^ 1)
+        some = [pool.both(first, c), pool.both(first, c ^ 1), pool.both(second, d), pool.both(second, d ^ 1)]
+        for rows in itertools.permutations(some):
+            self.assertEqual(pool.any_of(list(rows)), a)
+        self.assertEqual(pool.any_of([]), NO)
+        self.assertEqual(pool.any_of([NO, NO]), NO)
+        self.assertEqual(pool.any_of([NO, a]), a)
+        self.assertEqual(pool.any_of([a, a]), a)
+        self.assertEqual(pool.any_of([a, b, a ^ 1]), YES)
+        self.assertEqual(pool.any_of([b, YES, c]), YES)
+
+    def test_literals_that_are_told_apart(self):
+        for seed in range(40):
+            circuits = Circuits(seed, 80)
+            for (x, f), (y, g) in itertools.combinations(circuits.made, 2):
+                if not any(a and b for a, b in zip(f, g)):
+                    for first, second, bits, others in ((x, y, f, g), (y, x, g, f)):
+                        found = circuits.pool.told_apart(first, second)
+                        told = [circuits.pool.value(found, row) for row in circuits.rows]
+                        self.assertTrue(all(bit == 1 for bit, a in zip(told, bits) if a == 1))
+                        self.assertTrue(all(bit == 0 for bit, a in zip(told, others) if a == 1))
+
     def test_circuits_of_circuits(self):
         for seed in range(60):
             circuits = Circuits(seed, 60)
