@@ -25,17 +25,14 @@ FIRST_PART = 1024
 
 def solve(clauses):
     """Return ("yes", a filling that keeps all clauses), or ("no", a refutation of them)."""
+    return Search(clauses).answer()
+
+
+def solve_soon(clauses, most):
+    """Return the same, or None if it was not found by learning so many clauses."""
     search = Search(clauses)
-    while not search.broken:
-        row = search.spread()
-        if row is None:
-            if not search.choose():
-                return ("yes", search.filling())
-        elif search.level > 0:
-            search.learn(row)
-        else:
-            return ("no", search.refutation(row))
-    return ("no", ((),))
+    search.most_learnt = most
+    return search.answer()
 
 
 class Search(Units):
@@ -62,12 +59,29 @@ class Search(Units):
         self.pause = 0
         self.last_worth = 0
         self.long_worth = 0
+        # How many clauses may be learnt; None for as many as are needed.
+        self.most_learnt = None
         for clause in clauses:
             self.enter([self.numbers[x] for x in clause])
         if self.broken or self.spread() is not None:
             self.broken = True
         else:
             self.load_again()
+
+    def answer(self):
+        """Return what has been found when the search is over, or None where more would have to be learnt."""
+        while not self.broken:
+            row = self.spread()
+            if row is None:
+                if not self.choose():
+                    return ("yes", self.filling())
+            elif self.level == 0:
+                return ("no", self.refutation(row))
+            elif len(self.learnt) == self.most_learnt:
+                return None
+            else:
+                self.learn(row)
+        return ("no", ((),))
 
     def filling(self):
         """Return the filling that has been found."""

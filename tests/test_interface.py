@@ -4,6 +4,10 @@ import importlib
 import inspect
 import unittest
 
+from inputways.house import House
+from inputways.pool import Pool
+from inputways.unrolling import unroll
+
 FUNCTIONS = {
     "inputways.words": {"top": "(w)", "compute": "(op, w, x, y)"},
     "inputways.programs": {"program_faults": "(value)"},
@@ -20,16 +24,41 @@ FUNCTIONS = {
                         "refusal": "(program, inputs, value, *, steps)",
                         "ways_of": "(program, inputs, tree, *, steps)",
                         "told_run": "(program, inputs, tree, *, steps)"},
+    "inputways.unrolling": {"unroll": "(program, inputs, steps)"},
+    "inputways.reach": {"item_clauses": "(program, item, inputs, *, steps)", "reach": "(program, item, inputs, *, steps)",
+                        "check_reach": "(program, item, inputs, value, *, steps)"},
+    "inputways.claims": {"are_claims": "(program, value)", "obligations": "(program, claims)",
+                         "check_claims": "(program, value)", "kept": "(program, claims)", "prove": "(program, claims)"},
+    "inputways.cover": {"cover_clauses": "(sets, most)"},
+    "inputways.suites": {"suite": "(program, inputs, *, steps)", "check_suite": "(program, inputs, value, *, steps)"},
+    "inputways.packing": {"pack": "(value)", "unpack": "(data)"},
+    "inputways.compare": {"parting": "(first, second, inputs, *, steps)", "parting_clauses": "(first, second, inputs, *, steps)",
+                          "check_parting": "(first, second, inputs, value, *, steps)",
+                          "least": "(program, item, inputs, *, steps)", "below_clauses": "(program, item, row, *, steps)",
+                          "check_least": "(program, item, inputs, value, *, steps)"},
 }
 CLASSES = {"inputways.errors": {"WaysError": {}, "TextError": {}, "PackError": {}},
            "inputways.pool": {"Pool": {
                "bit": "(self, name)", "both": "(self, x, y)", "either": "(self, x, y)", "unlike": "(self, x, y)",
                "chosen": "(self, c, x, y)", "value": "(self, literal, bits)", "values": "(self, literals, bits)",
-               "clauses": "(self, literal)"}}}
+               "clauses": "(self, literal)"}},
+           "inputways.house": {"House": {
+               "__init__": "(self, program, inputs, steps)", "tree": "(self)", "change": "(self, program)",
+               "bound": "(self, inputs, steps)", "ways": "(self)", "run": "(self, inputs)", "unmet": "(self)",
+               "examples": "(self, item)", "report": "(self)"}}}
 VALUES = {"inputways.words": ("PAIRS", "SINGLES"), "inputways.pool": ("NO", "YES")}
 
 
+PROGRAM = (2, (), (("main", 0, ((0, (), ("return", ("int", 1))),)),))
+
+
 class InterfaceTest(unittest.TestCase):
+
+    def test_fields(self):
+        self.assertEqual(House(PROGRAM, 1, 5).made, 0)
+        unrolling = unroll(PROGRAM, 1, 5)
+        self.assertIs(type(unrolling.pool), Pool)
+        self.assertEqual((unrolling.literal(("block", "main", 0)), unrolling.end_literal("none")), (1, 0))
 
     def test_functions(self):
         for module, functions in FUNCTIONS.items():
