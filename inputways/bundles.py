@@ -44,12 +44,12 @@ class Bundle(Symbols):
         c = self.pool.told_apart(other.live, self.live)
         for mine, its in zip(self.frames, other.frames):
             mine.variables = self.blended(c, its.variables, mine.variables)
-        for name in self.cells:
+        for name in self.plan.sizes:
             self.cells[name] = self.blended(c, other.cells[name], self.cells[name])
         numbers = sorted(list(self.counts) + list(other.counts))
         self.counts = {n: self.pool.chosen(c, other.counts.get(n, NO), self.counts.get(n, NO)) for n in numbers}
         self.lives.append(other.live)
-        self.live = self.pool.any_of(self.lives)
+        self.live = self.pool.any_of(self.pool.joined(self.lives))
 
     def blended(self, c, first, second):
         """Return the list of the words of the first list where a literal is 1, otherwise of the second one."""

@@ -28,6 +28,11 @@ class Order:
         if self.spot < 0 or self.stamps[k] > self.stamps[self.spot]:
             self.spot = k
 
+    def bring(self, variables):
+        """Put variables at the end of the row, in the order that they have, whether they are known or not."""
+        self.renew(variables)
+        self.spot = self.last
+
     def renew(self, touched):
         """Put variables, which are all known, at the end of the row, in the order that they have."""
         for k in sorted(touched, key=lambda m: self.stamps[m]):

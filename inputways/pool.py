@@ -89,6 +89,13 @@ class Pool:
 
     def any_of(self, literals):
         """Return a literal that is 1 where one of some literals is 1, or more of them."""
+        total = NO
+        for x in literals:
+            total = self.either(total, x)
+        return total
+
+    def joined(self, literals):
+        """Return a list of literals, perhaps fewer than some, of which one is 1 just where one of these is."""
         left = {}
         for x in literals:
             found = self.half_of(x, left)
@@ -97,10 +104,7 @@ class Pool:
                 del left[y]
                 found = self.half_of(x, left)
             left[x] = True
-        total = NO
-        for x in left:
-            total = self.either(total, x)
-        return total
+        return list(left)
 
     def half_of(self, x, others):
         """Return (y, a) for a literal y of others such that x or y is 1 just where a is 1; None if there is none."""
@@ -145,22 +149,27 @@ class Pool:
         """Work out the list of the bits of literals for a dict from names to bits."""
         found = {}
         # A gate is made of earlier ones, so their bits are there when they are asked for.
-        for k in self.cone(literals):
+        for k in self.cone(literals, {}):
             found[k] = gate_value(self.gates[k], found, bits)
         return [found[x >> 1] ^ (x & 1) for x in literals]
 
-    def cone(self, literals):
-        """Return the ascending list of the gates of which literals are made."""
-        seen = {}
+    def cone(self, literals, seen):
+        """Return the ascending list of the gates of which literals are made, but those that were seen, and see them."""
+        found = []
         todo = [x >> 1 for x in literals]
         while len(todo) > 0:
             k = todo.pop()
             if k not in seen:
                 seen[k] = True
+                found.append(k)
                 gate = self.gates[k]
                 if gate[0] != "bit":
                     todo.extend([x >> 1 for x in gate[1:]])
-        return sorted(seen)
+        return sorted(found)
+
+    def numbers_of(self, literal):
+        """Return the dict from the gates of which a literal is made to their variables."""
+        return {k: v for v, k in enumerate(self.cone([literal], {}), start=1)}
 
     def clauses(self, literal):
         """Return the clauses that say that a literal is 1, and the pairs of a name and its variable."""
@@ -168,19 +177,24 @@ class Pool:
             return ((), ())
         if literal == NO:
             return (((),), ())
-        numbers = {}
-        clauses = []
-        names = []
-        for k in self.cone([literal]):
-            gate = self.gates[k]
-            numbers[k] = len(numbers) + 1
-            if gate[0] == "bit":
-                names.append((gate[1], numbers[k]))
-            else:
-                parts = [signed(x, numbers) for x in gate[1:]]
-                clauses.extend(gate_clauses(gate[0], numbers[k], parts))
+        numbers = self.numbers_of(literal)
+        clauses = self.rows_of(numbers, numbers)
         clauses.append((signed(literal, numbers),))
-        return (tuple(clauses), tuple(names))
+        return (tuple(clauses), tuple(self.names_of(numbers)))
+
+    def rows_of(self, gates, numbers):
+        """Return the list of the clauses of some gates, where all gates that they are made of have variables."""
+        rows = []
+        for k in gates:
+            gate = self.gates[k]
+            if gate[0] != "bit":
+                parts = [signed(x, numbers) for x in gate[1:]]
+                rows.extend(gate_clauses(gate[0], numbers[k], parts))
+        return rows
+
+    def names_of(self, numbers):
+        """Return the list of the pairs of a name and its variable."""
+        return [(self.gates[k][1], numbers[k]) for k in numbers if self.gates[k][0] == "bit"]
 
 
 def both_gate(x, y):

@@ -1,31 +1,24 @@
 """Reaching: for an item of a program an input that meets it, or a refutation that there is none."""
 
+from inputways.cases import solve_any
 from inputways.programs import is_row
 from inputways.refuter import refutes
 from inputways.rows import inputs_of, is_inputs
 from inputways.runs import met
-from inputways.solver import solve
 from inputways.unrolling import unroll
 
 
 def item_clauses(program, item, inputs, *, steps):
     """Return the clauses that say that the run with so many inputs meets an item."""
-    return named_clauses(program, item, inputs, steps)[0]
-
-
-def named_clauses(program, item, inputs, steps):
-    """Return these clauses, and the pairs of the name of a bit and its variable."""
     unrolling = unroll(program, inputs, steps)
-    return unrolling.pool.clauses(unrolling.literal(item))
+    return unrolling.pool.clauses(unrolling.literal(item))[0]
 
 
 def reach(program, item, inputs, *, steps):
     """Return ("met", inputs that meet an item), or ("never", a refutation of its clauses)."""
-    clauses, names = named_clauses(program, item, inputs, steps)
-    answer, found = solve(clauses)
-    if answer == "no":
-        return ("never", found)
-    return ("met", inputs_of(found, names, inputs))
+    unrolling = unroll(program, inputs, steps)
+    answer, found = solve_any(unrolling.pool, unrolling.literal(item), unrolling.parts_of(item))
+    return ("never", found) if answer == "no" else ("met", inputs_of(found, inputs))
 
 
 def check_reach(program, item, inputs, value, *, steps):

@@ -14,11 +14,9 @@ def bits_of(row, width):
     return {(k, j): (x >> j) & 1 for k, x in enumerate(row) for j in range(width)}
 
 
-def inputs_of(filling, names, count):
-    """Return the tuple of so many inputs that have the bits of a filling at its names, otherwise 0."""
-    true = {x: True for x in filling}
+def inputs_of(bits, count):
+    """Return the tuple of so many inputs that have the bits of a dict, and otherwise 0."""
     row = [0] * count
-    for (k, j), variable in names:
-        if variable in true:
-            row[k] |= 1 << j
+    for k, j in bits:
+        row[k] |= bits[(k, j)] << j
     return tuple(row)

@@ -48,13 +48,15 @@ class SeenUnrolling(Unrolling):
 
     def add_signs(self, found, name, rows):
         """Put into a dict the literals that there is a word, and of its bits, which are 0 where there is none."""
-        found[name] = self.pool.any_of([live for live, _ in rows])
+        found[name] = self.pool.any_of(self.pool.joined([live for live, _ in rows]))
         rows = [(live, spelled_word(self.pool, word, self.plan.width)) for live, word in rows]
         for j in range(self.plan.width):
-            found[name + (j,)] = self.pool.any_of([self.pool.both(live, word[j]) for live, word in rows])
+            bits = [self.pool.both(live, word[j]) for live, word in rows]
+            found[name + (j,)] = self.pool.any_of(self.pool.joined(bits))
 
 
 def unlike_signs(pool, first, second):
-    """Return the literal that some literals of two dicts differ."""
+    """Return the list of the literals that two dicts of literals differ at a name, each of them once."""
     names = {name: True for name in list(first) + list(second)}
-    return pool.any_of([pool.unlike(first.get(name, NO), second.get(name, NO)) for name in names])
+    literals = [pool.unlike(first.get(name, NO), second.get(name, NO)) for name in names]
+    return list({x: True for x in literals})

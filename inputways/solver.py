@@ -25,12 +25,12 @@ FIRST_PART = 1024
 
 def solve(clauses):
     """Return ("yes", a filling that keeps all clauses), or ("no", a refutation of them)."""
-    return Search(clauses).answer()
+    return Search(variables_of(clauses), clauses).answer()
 
 
 def solve_soon(clauses, most):
     """Return the same, or None if it was not found by learning so many clauses."""
-    search = Search(clauses)
+    search = Search(variables_of(clauses), clauses)
     search.most_learnt = most
     return search.answer()
 
@@ -38,9 +38,9 @@ def solve_soon(clauses, most):
 class Search(Units):
     """The state of a search."""
 
-    def __init__(self, clauses):
-        super().__init__(variables_of(clauses))
-        count = len(self.variables)
+    def __init__(self, variables, clauses):
+        super().__init__(variables)
+        count = len(variables)
         self.order = Order(count)
         # For each variable the item that was true when it was known last.
         self.wishes = [2 * k + 1 for k in range(count)]
@@ -73,6 +73,7 @@ class Search(Units):
         while not self.broken:
             row = self.spread()
             if row is None:
+                self.restart_if_due()
                 if not self.choose():
                     return ("yes", self.filling())
             elif self.level == 0:
@@ -81,14 +82,17 @@ class Search(Units):
                 return None
             else:
                 self.learn(row)
-        return ("no", ((),))
+        return ("no", self.refutation(None))
 
     def filling(self):
         """Return the filling that has been found."""
         return tuple([v if self.state[self.numbers[v]] == TRUE else -v for v in self.variables])
 
     def refutation(self, row):
-        """Return the learnt clauses that are needed to see that all items of a clause are false without a choice."""
+        """Return the learnt clauses that are needed to see that all items of a clause are false without a choice.
+
+        The clause is None where it is one that has just been entered.
+        """
         needed = [False] * len(self.learnt)
         todo = [row] + [self.causes[x >> 1] for x in self.trail]
         todo = [cause.number for cause in todo if cause is not None and cause.number is not None]
@@ -101,15 +105,25 @@ class Search(Units):
 
     def choose(self):
         """Choose an item that is open, and tell whether there was one."""
-        if self.passing >= self.patience or self.is_break_due():
-            self.restart()
-        k = self.order.first_open(self.state)
-        if k is None:
-            return False
+        x = self.next_choice()
+        return x is not None and self.decide(x)
+
+    def decide(self, x):
+        """Choose an item, and tell that this was done."""
         self.limits.append(len(self.trail))
         self.level += 1
-        self.give(self.wishes[k], None)
+        self.give(x, None)
         return True
+
+    def next_choice(self):
+        """Return the item that is chosen next, or None if none is open."""
+        k = self.order.first_open(self.state)
+        return None if k is None else self.wishes[k]
+
+    def restart_if_due(self):
+        """Take all choices back if it is time for that."""
+        if self.passing >= self.patience or self.is_break_due():
+            self.restart()
 
     def is_break_due(self):
         """Tell whether all choices are to be taken back for a new beginning."""

@@ -29,7 +29,7 @@ def explore(program, inputs, *, steps):
             if answer == "no":
                 leaves[path[:place] + (side,)] = ("shut", found)
             else:
-                todo.append((inputs_of(found, names, inputs), place + 1))
+                todo.append((inputs_of(bits_at(found, names), inputs), place + 1))
     return joined(leaves)
 
 
@@ -38,6 +38,12 @@ def path_of(plan, row, steps):
     telling = Telling(plan, row, steps)
     telling.go()
     return tuple(telling.decided)
+
+
+def bits_at(filling, names):
+    """Return the dict from names to the bits that a filling has at their variables."""
+    true = {x: True for x in filling}
+    return {name: 1 if variable in true else 0 for name, variable in names}
 
 
 def joined(leaves):

@@ -36,10 +36,16 @@ class Unrolling:
         self.ended = {word: [] for word in END_WORDS}
         self.item_literals = {}
         self.end_literals = {}
+        # For each item, literals of which one is 1 just where its literal is.
+        self.item_parts = {}
 
     def literal(self, item):
         """Return the literal of the inputs whose runs meet an item."""
         return self.item_literals.get(item, NO)
+
+    def parts_of(self, item):
+        """Return a list of literals of which one is 1 just where the literal of an item is."""
+        return self.item_parts.get(item, [])
 
     def end_literal(self, word):
         """Return the literal of the inputs whose runs end by an end that begins with a word."""
@@ -57,8 +63,11 @@ class Unrolling:
                 self.note_item(("block", frame.procedure, frame.label), bundle.live)
                 bundle.go_on()
             self.go_on_behind_calls()
-        self.item_literals = {item: self.pool.any_of(self.met[item]) for item in self.met}
-        self.end_literals = {word: self.pool.any_of(self.ended[word]) for word in END_WORDS}
+        for item in self.met:
+            self.item_parts[item] = self.pool.joined(self.met[item])
+            self.item_literals[item] = self.pool.any_of(self.item_parts[item])
+        for word in END_WORDS:
+            self.end_literals[word] = self.pool.any_of(self.pool.joined(self.ended[word]))
 
     def go_on_behind_calls(self):
         """Go on with the bundles whose procedures have ended."""

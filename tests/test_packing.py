@@ -198,6 +198,13 @@ class UnpackTest(unittest.TestCase):
             self.refuse([6, 2, byte, 0], 2)
             self.refuse([6, 1, 6, 1, byte], 4)
 
+    def test_what_is_no_byte(self):
+        for wrong in (256, 300, -1, 10 ** 30, True, None, "a", 1.0):
+            self.refuse([wrong], 0)
+            self.refuse([3, wrong], 1)
+            self.refuse([5, 1, wrong], 2)
+            self.refuse([6, 2, 0, wrong], 3)
+
     def test_a_needless_last_digit(self):
         for kind in (3, 4, 5, 6):
             self.refuse([kind, 128, 0], 2)

@@ -52,6 +52,8 @@ class PartingTest(unittest.TestCase):
         else:
             self.assertTrue(refutes(parting_clauses(first, second, count, steps=steps), value[1]))
         self.assertIs(check_parting(first, second, count, value, steps=steps), True)
+        for row in rows[:20]:
+            self.assertIs(check_parting(first, second, count, ("apart", row), steps=steps), row in apart)
         self.assertIs(check_parting(second, first, count, parting(second, first, count, steps=steps), steps=steps), True)
         return value[0]
 
@@ -83,6 +85,22 @@ class PartingTest(unittest.TestCase):
             expected = "apart" if steps >= 11 else "alike"
             self.check(counting, counting.replace("put v1", "put (v1 and 3)"), expected, steps=steps)
 
+    def test_runs_that_have_written_so_many_words_meet_again(self):
+        # Both sides come to block 3 at one time, behind words of different numbers.
+        text = "v0 = take\nif (v0 and 1) 1 2\nblock 1\nput v0\nput 1\ngo 3\nblock 2\ngo 3\nblock 3\nput {}\nif (v0 and 2) 4 5\n" \
+               "block 4\nput 2\ngo 6\nblock 5\nput 3\nput 2\ngo 6\nblock 6\nput {}\nreturn 0"
+        turned = text.replace("if (v0 and 1) 1 2", "if (v0 and 1) 8 9").replace("block 1\n", "block 8\n").replace(
+            "block 2\n", "block 9\n").replace("if (v0 and 2) 4 5", "if ((v0 and 2) equal 0) 5 4")
+        self.check(text.format("v0", "5"), turned.format("v0", "5"), "alike")
+        self.check(text.format("v0", "5"), turned.format("(v0 and 3)", "5"), "apart")
+        self.check(text.format("v0", "v0"), turned.format("v0", "(v0 or (v0 equal 4))"), "apart")
+        self.check(text.format("v0", "5"), turned.format("v0", "5").replace("put v0\nput 1", "put v0"), "apart")
+        self.check(text.format("v0", "5"), turned.format("v0", "5").replace("put 3\nput 2", "put 2"), "apart")
+        # The same words, but in other blocks.
+        self.check("v0 = take\nif v0 1 2\nblock 1\nput 1\nput 2\ngo 3\nblock 2\nput 1\ngo 3\nblock 3\nput 3\nput v0\nreturn 0",
+                   "v0 = take\nif v0 1 2\nblock 1\nput 1\nput 2\ngo 3\nblock 2\nput 1\ngo 3\nblock 3\nput 3\nput v0\nreturn 0"
+                   .replace("put 2\ngo 3", "go 3").replace("block 3\n", "block 3\nif v0 4 5\nblock 4\nput 2\ngo 5\nblock 5\n"), "alike")
+
     def test_what_main_returns(self):
         self.check("v0 = take\nreturn v0", "v0 = take\nreturn (v0 or 0)", "alike")
         self.check("v0 = take\nreturn v0", "v0 = take\nreturn (v0 or 1)", "apart")
@@ -104,6 +122,13 @@ class PartingTest(unittest.TestCase):
         self.check(index[0], index[1], "alike")
         self.check(index[0], "v0 = take\nput (v0 and 0)\nreturn 0", "apart")
         self.check(index[0], "v0 = take\nput 0\nv1 = a[v0]\nreturn 0", "apart")
+        # In another procedure, too, and at the end of a block.
+        called = (HEAD.replace("v1 = f(v0)\nreturn v1", "v1 = 3\nv1 = a[v0]\nreturn 0"), HEAD)
+        self.check("v0 = take\nv0 = f(v0)\nreturn 0", index[0].replace("put", "v1 ="), "alike", heads=called)
+        self.check("v0 = take\nv0 = f(v0)\nreturn 0", "v0 = take\nif (v0 less 3) 1 2\nblock 1\nreturn 0\nblock 2\nreturn a[v0]",
+                   "alike", heads=called)
+        deeper = (HEAD.replace("v1 = f(v0)", "v2 = 1\ngo 1\nblock 1\nv1 = f(v0)"), HEAD)
+        self.check("v0 = f(1)\nreturn 0", "v0 = f(1)\nreturn 0", "alike", steps=60, heads=deeper)
         deep = ("v0 = take\nif v0 1 2\nblock 1\nv0 = f(1)\nreturn 0\nblock 2\nreturn 0",
                 "v0 = take\nif v0 1 2\nblock 1\ngo 3\nblock 3\nv2 = 1\nv0 = f(v2)\nreturn 0\nblock 2\nreturn 0")
         self.check(deep[0], deep[1], "alike")

@@ -105,28 +105,32 @@ class LiteralTest(unittest.TestCase):
             circuits = Circuits(seed, 60)
             for many in (0, 1, 2, 3, 5, 12):
                 some = circuits.random.sample(circuits.made, many)
-                found = circuits.pool.any_of([x for x, _ in some])
+                literals = [x for x, _ in some]
+                found = circuits.pool.any_of(literals)
+                joined = circuits.pool.any_of(circuits.pool.joined(literals))
                 for k, row in enumerate(circuits.rows):
-                    self.assertEqual(circuits.pool.value(found, row), max([bits[k] for _, bits in some], default=0))
+                    expected = max([bits[k] for _, bits in some], default=0)
+                    self.assertEqual(circuits.pool.values([found, joined], row), [expected, expected])
 
-    def test_any_of_the_two_sides_of_choices(self):
+    def test_joined_sides_of_choices(self):
         # All that comes from a literal by choices is that literal again, in whatever order it stands.
         pool = Pool()
         a, b, c, d = [pool.bit((k,)) for k in range(4)]
         first, second = pool.both(a, b), pool.both(a, b ^ 1)
         some = [pool.both(first, c), pool.both(first, c ^ 1), pool.both(second, d), pool.both(second, d ^ 1)]
         for rows in itertools.permutations(some):
-            self.assertEqual(pool.any_of(list(rows)), a)
+            self.assertEqual(pool.joined(list(rows)), [a])
+        self.assertEqual(pool.joined([]), [])
+        self.assertEqual(pool.joined([a, a]), [a])
+        self.assertEqual(pool.joined([a, b, a ^ 1]), [b, YES])
+        self.assertEqual(pool.joined([some[0], b, some[1]]), [b, first])
         self.assertEqual(pool.any_of([]), NO)
-        self.assertEqual(pool.any_of([NO, NO]), NO)
         self.assertEqual(pool.any_of([NO, a]), a)
-        self.assertEqual(pool.any_of([a, a]), a)
-        self.assertEqual(pool.any_of([a, b, a ^ 1]), YES)
         self.assertEqual(pool.any_of([b, YES, c]), YES)
 
     def test_literals_that_are_told_apart(self):
         for seed in range(40):
-            circuits = Circuits(seed, 80)
+            circuits = Circuits(seed, 40)
             for (x, f), (y, g) in itertools.combinations(circuits.made, 2):
                 if not any(a and b for a, b in zip(f, g)):
                     for first, second, bits, others in ((x, y, f, g), (y, x, g, f)):
