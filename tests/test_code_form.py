@@ -7,6 +7,8 @@ import unittest
 
 PACKAGE = pathlib.Path(__file__).resolve().parent.parent / "inputways"
 LIBRARY = ("heapq", "math", "itertools", "collections")
+# Names of methods of builtin values that methods or attributes of the package may have, too.
+FREE = ("values", "count")
 
 
 def sources():
@@ -38,6 +40,16 @@ class CodeFormTest(unittest.TestCase):
                 if isinstance(node, ast.ImportFrom):
                     self.assertEqual(node.level, 0, path)
                     self.assertTrue(node.module.startswith("inputways.") or node.module in LIBRARY, path)
+
+    def test_no_method_or_attribute_has_the_name_of_one_of_a_builtin_value(self):
+        taken = {name for kind in (str, int, list, dict, set, bytes, tuple) for name in dir(kind)} - {"__init__"}
+        for path, _, tree in sources():
+            for node in ast.walk(tree):
+                names = [part.name for part in node.body if isinstance(part, ast.FunctionDef)] if isinstance(node, ast.ClassDef) else []
+                if isinstance(node, ast.Attribute) and isinstance(node.ctx, ast.Store):
+                    names.append(node.attr)
+                for name in names:
+                    self.assertTrue(name in FREE or name not in taken, (path, name))
 
     def test_no_name_is_that_of_a_builtin(self):
         for path, _, tree in sources():
